@@ -1,5 +1,8 @@
 """A house: its places and the ways between them, both numbered from 1."""
 
+FIRE = "fire"
+STAIR = "stair"
+
 
 class Place:
     def __init__(self, name, kind):
@@ -15,6 +18,10 @@ class Way:
         self.second = second
         self.price = price
         self.time = time
+
+    # Only asked of one of its two ends.
+    def other_end(self, place):
+        return self.second if place == self.first else self.first
 
 
 class House:
@@ -53,5 +60,8 @@ class House:
     def way(self, number):
         return self.ways[number - 1]
 
+    def numbers_of_kind(self, kind):
+        return [number for number, place in enumerate(self.places, start=1) if place.kind == kind]
+
     def count_kind(self, kind):
-        return len([place for place in self.places if place.kind == kind])
+        return len(self.numbers_of_kind(kind))

@@ -1,11 +1,7 @@
 """Which ways of a house are closed, and which are stuck."""
 
 from smokestairs.building import House
-
-DONE = 0
-NOT_THERE = -1
-NEVER_CLOSED = -3
-STUCK = -4
+from smokestairs.refusals import DONE, NEVER_CLOSED, NOT_THERE, STUCK
 
 
 # Closed and stuck are apart, since a way sticks as it is: closed or not.

@@ -1,7 +1,10 @@
 """The calls on a house, and what they answer."""
 
-from smokestairs.doors import DONE, NOT_THERE, State, close_way, free_ways, reopen_way, stick_way, ways_now
+from smokestairs.asking import ask_arrive, ask_check, ask_latest, ask_plan, ask_proof, ask_survives, ask_weak
+from smokestairs.building import FIRE, STAIR
+from smokestairs.doors import State, close_way, free_ways, reopen_way, stick_way, ways_now
 from smokestairs.reading import read_calls
+from smokestairs.refusals import DONE, NOT_THERE
 from smokestairs.spread import places_reached
 from smokestairs.texts import WrongLine, print_house, read_house
 
@@ -12,7 +15,12 @@ REOPEN = 3
 STICK = 4
 FREE = 5
 NOW = 6
-SMOKE = 7
+WEAK = 8
+PLAN = 9
+PROOF = 10
+CHECK = 11
+SURVIVES = 12
+ARRIVE = 13
 
 WRONG_TEXT = 1
 
@@ -22,7 +30,11 @@ def answers(calls):
     state = State()
     given = []
     for call in read_calls(calls):
-        answer = answer_of(state, call)
+        # The calls from weak on are handed the house alone: what is closed or stuck doesn't matter to them.
+        if call.kind < WEAK:
+            answer = answer_of(state, call)
+        else:
+            answer = asked_answer(state.house, call)
         given.append(len(answer))
         given.extend(answer)
     return given
@@ -43,10 +55,23 @@ def answer_of(state, call):
         return free_ways(state)
     if call.kind == NOW:
         return ways_now(state)
-    if call.kind == SMOKE:
-        return smoke(state, call.numbers[0])
-    # The other calls are read, so that those behind them are found, but aren't answered yet.
-    return []
+    return smoke(state, call.numbers[0])
+
+
+def asked_answer(house, call):
+    if call.kind == WEAK:
+        return ask_weak(house, call.rows[0])
+    if call.kind == PLAN:
+        return ask_plan(house, call.numbers[0])
+    if call.kind == PROOF:
+        return ask_proof(house, call.numbers[0])
+    if call.kind == CHECK:
+        return ask_check(house, call.numbers[0], call.rows[0], call.rows[1])
+    if call.kind == SURVIVES:
+        return ask_survives(house, call.rows[0], call.rows[1])
+    if call.kind == ARRIVE:
+        return ask_arrive(house, call.numbers[0], call.rows[0])
+    return ask_latest(house, call.numbers[0], call.rows[0])
 
 
 def build(state, text):
@@ -55,7 +80,7 @@ def build(state, text):
     except WrongLine as wrong:
         return [WRONG_TEXT, wrong.line, wrong.why]
     state.move_into(house)
-    return [DONE, len(house.places), len(house.ways), house.count_kind("fire"), house.count_kind("stair")]
+    return [DONE, len(house.places), len(house.ways), house.count_kind(FIRE), house.count_kind(STAIR)]
 
 
 def smoke(state, start):

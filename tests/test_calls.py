@@ -6,7 +6,8 @@ import unittest
 
 from smokestairs.house import answers
 from smokestairs.reading import read_calls
-from tests.helper import FREE, HOUSE, NOW, PRINTED, build, bytes_of, close, last, part, reopen, run, smoke, stick
+from tests.helper import (FREE, HOUSE, NOW, PRINTED, arrive, build, bytes_of, check, close, last, latest, part, plan,
+                          proof, reopen, run, smoke, stick, survives, weak)
 
 # Each call's numbers and rows differ, so that none can stand for another.
 ALL_FIFTEEN = [
@@ -27,12 +28,48 @@ ALL_FIFTEEN = [
     (14, [19], [[7]]),
 ]
 
+# What the calls from 8 on answer of this house.
+KEPT = "fire a\nroom b\nstair s\nway w a b 5 1\nway v b s 7 2\n"
+ASKED = [
+    (weak([1]), [0, 1, 1, 1, 2]),
+    (plan(2), [0, 12, 1, 2]),
+    (proof(2), [0, 7, 2, 7, 7]),
+    (check(2, [1, 2], [7, 7]), [0, 1, 12]),
+    (survives([1, 2], [2]), [0, 1]),
+    (arrive(3, [1000000, 1]), [0, 3, 2, 0]),
+    (latest(1, [2]), [0, 1]),
+]
+REFUSED = [
+    (weak([2, 1]), [-2]),
+    (plan(0), [-2]),
+    (plan(3), [-5]),
+    (proof(6), [-2]),
+    (proof(3), [-5]),
+    (check(1, [1], [5]), [-2]),
+    (survives([1], [3]), [-2]),
+    (arrive(4, []), [-1]),
+    (arrive(1, []), [-2]),
+    (latest(0, [2, 1]), [-1]),
+    (latest(1, [2, 1]), [-2]),
+    (latest(1, []), [-6]),
+]
+
 
 def flat(call):
     numbers = [call[0]] + call[1]
     for row in call[2]:
         numbers = numbers + [len(row)] + row
     return numbers
+
+
+class Kept(list):
+    """A list that refuses to be changed."""
+
+    def refuse(self, *args, **kwargs):
+        raise AssertionError("the list that is handed in is changed")
+
+    append = extend = insert = pop = remove = clear = sort = reverse = refuse
+    __setitem__ = __delitem__ = __iadd__ = __imul__ = refuse
 
 
 def with_empty_rows(call):
@@ -127,6 +164,89 @@ class AnswersTest(unittest.TestCase):
         # The bytes 0 to 7 are calls' numbers, but stand within a text.
         given = run(build([1, 2, 3, 4, 5, 6, 7, 0]), build([5, 10, 6, 10]), NOW)
         self.assertEqual(given, [[1, 1, 1], [1, 1, 1], [0, 0, 0]])
+
+
+class AskingTest(unittest.TestCase):
+    def test_each_answer_has_its_count_before_it(self):
+        self.assertEqual(answers([8, 1, 1, 6]), [1, -2, 3, 0, 0, 0])
+        self.assertEqual(answers([8, 0, 9, 1, 10, 5, 6]), [2, 0, 0, 2, 0, 0, 3, 0, 0, 0, 3, 0, 0, 0])
+        for call, answer in ASKED + REFUSED:
+            self.assertEqual(answers(build(KEPT) + call), [5, 0, 3, 2, 1, 1, len(answer)] + answer)
+
+    def test_any_call_may_be_first(self):
+        firsts = [(weak([]), [0, 0]), (plan(5), [0, 0]), (proof(5), [0, 0, 0]), (check(5, [], []), [0, 1, 0]),
+                  (survives([], []), [0, 1]), (arrive(1, []), [-1]), (latest(1, []), [-1])]
+        for call, answer in firsts:
+            self.assertEqual(run(call, build(KEPT)), [answer, [0, 3, 2, 1, 1]])
+
+    def test_what_is_closed_or_stuck_does_not_matter(self):
+        for moved in ([close(1)], [close(1), close(2)], [stick(1), stick(2)], [close(2), stick(2), stick(1)]):
+            for call, answer in ASKED + REFUSED:
+                self.assertEqual(last(build(KEPT), *moved, call), answer)
+
+    def test_asking_changes_nothing(self):
+        before = [build(KEPT), close(2), stick(1)]
+        told = [NOW, PRINTED, smoke(1), smoke(3), close(1), reopen(1)]
+        plain = run(*before, *told)
+        for call, answer in ASKED + REFUSED:
+            given = run(*before, call, *told)
+            self.assertEqual(given[:3] + given[4:], plain)
+            self.assertEqual(given[3], answer)
+
+    def test_the_house_that_is_built_last_is_asked(self):
+        other = "fire a\nstair s\nway w a s 4 9\n"
+        given = run(build(KEPT), plan(1), build(other), plan(1), build("x\n"), plan(1), build(""), plan(1), build(KEPT),
+                    plan(1))
+        self.assertEqual(given[1::2], [[0, 5, 1], [0, 4, 1], [0, 4, 1], [0, 0], [0, 5, 1]])
+
+    def test_two_hundred_calls_with_twenty_plans_and_proofs(self):
+        asked = [(call, answer) for call, answer in ASKED + REFUSED if call[0] not in (9, 10)]
+        calls = [build(KEPT)]
+        expected = [[0, 3, 2, 1, 1]]
+        for n in range(10):
+            calls.extend([plan(n % 3), proof(n % 3)])
+            expected.extend([[[-2], [-2]], [[0, 5, 1], [0, 5, 0, 5, 5]], [[0, 12, 1, 2], [0, 7, 2, 7, 7]]][n % 3])
+            calls.extend([close(1), stick(1), NOW, FREE, smoke(1)])
+            expected.extend([[0], [0], [0, 1, 1, 1, 1], [0], [0, 1]])
+        while len(calls) < 200:
+            call, answer = asked[len(calls) % len(asked)]
+            calls.append(call)
+            expected.append(answer)
+        self.assertEqual(run(*calls), expected)
+
+    def test_what_is_handed_in_stays_the_same_and_nothing_is_kept(self):
+        calls = build(KEPT) + close(1)
+        for call, answer in ASKED + REFUSED:
+            calls += call
+        before = list(calls)
+        first = answers(calls)
+        self.assertEqual(calls, before)
+        self.assertEqual(answers(calls), first)
+        self.assertEqual(part(answers(plan(1))), [[0, 0]])
+        self.assertEqual(answers(calls), first)
+        self.assertEqual(part(first)[2:], [answer for call, answer in ASKED + REFUSED])
+
+    def test_what_is_handed_in_is_not_changed_for_a_while_either(self):
+        for call, answer in ASKED + REFUSED:
+            self.assertEqual(part(answers(Kept(build(KEPT) + call)))[1], answer)
+
+    def test_answers_are_whole_numbers(self):
+        for call, answer in ASKED + REFUSED:
+            given = answers(build(KEPT) + call)
+            self.assertIs(type(given), list)
+            self.assertEqual({type(number) for number in given}, {int})
+
+    def test_no_answer_but_a_refusal_begins_below_0(self):
+        for call, answer in ASKED:
+            self.assertEqual(last(build(KEPT), call)[0], 0)
+        for call, answer in REFUSED:
+            self.assertEqual(len(last(build(KEPT), call)), 1)
+
+    def test_nothing_is_printed(self):
+        out, err = io.StringIO(), io.StringIO()
+        with contextlib.redirect_stdout(out), contextlib.redirect_stderr(err):
+            answers(sum([call for call, answer in ASKED + REFUSED], build(KEPT)))
+        self.assertEqual(out.getvalue() + err.getvalue(), "")
 
 
 class ReadingTest(unittest.TestCase):

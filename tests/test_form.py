@@ -25,6 +25,15 @@ OWN_NAMES = set("""
 UNUSED_NAMES = set("register mro elements open input version_info with_traceback add_note format format_map".split())
 UNUSED_WORDS = ("type typing typing_extensions enum Enum IntEnum StrEnum Flag IntFlag Generic Protocol ABC ABCMeta "
                 "namedtuple NamedTuple TypedDict TYPE_CHECKING abstractmethod").split()
+METHODS = set("""
+    append clear copy count endswith extend find get index insert isalnum isalpha isdigit islower isspace isupper items
+    join keys ljust lower lstrip partition pop remove replace reverse rfind rjust rpartition rsplit rstrip setdefault
+    split splitlines startswith strip update upper values zfill bit_length __init__
+""".split())
+KEYWORDS = {"sorted": ("key", "reverse"), "min": ("key", "default"), "max": ("key", "default"), "sum": ("start",),
+            "enumerate": ("start",), "zip": ("strict",)}
+WALKED = ("zip", "enumerate", "reversed", "range", "items", "keys", "values")
+WALKERS = ("list", "tuple", "dict", "sorted", "sum", "any", "all", "enumerate", "zip", "min", "max")
 DUNDERS = ("__init__", "__eq__", "__repr__", "__str__", "__len__")
 
 
@@ -39,6 +48,52 @@ def bound_names(tree):
             yield node.id
         elif isinstance(node, ast.Attribute):
             yield node.attr
+
+
+def called_name(node):
+    """How the function or method is called, None if the node is no call."""
+    if not isinstance(node, ast.Call):
+        return None
+    return node.func.id if isinstance(node.func, ast.Name) else getattr(node.func, "attr", None)
+
+
+def imports_of(tree):
+    return [node for node in tree.body if isinstance(node, ast.ImportFrom)]
+
+
+def taken_names(tree):
+    """The classes and imports of the file, by whose names no parameter and no local goes."""
+    names = [node.name for node in tree.body if isinstance(node, ast.ClassDef)]
+    for node in imports_of(tree):
+        names.extend(alias.name for alias in node.names)
+    return names
+
+
+def top_names(tree):
+    names = taken_names(tree)
+    names.extend(node.name for node in tree.body if isinstance(node, ast.FunctionDef))
+    for node in tree.body:
+        if isinstance(node, ast.Assign):
+            names.append(node.targets[0].id)
+    return names
+
+
+def local_names(tree):
+    for top in tree.body:
+        if isinstance(top, (ast.FunctionDef, ast.ClassDef)):
+            for node in ast.walk(top):
+                if isinstance(node, ast.arg):
+                    yield node.arg
+                if isinstance(node, ast.Name) and isinstance(node.ctx, ast.Store):
+                    yield node.id
+
+
+def own_methods(tree):
+    for node in ast.walk(tree):
+        if isinstance(node, ast.ClassDef):
+            for method in node.body:
+                if isinstance(method, ast.FunctionDef) and method.name != "__init__":
+                    yield method.name
 
 
 class FormTest(unittest.TestCase):
@@ -115,6 +170,92 @@ class FormTest(unittest.TestCase):
                 if isinstance(node, (ast.arg, ast.FunctionDef, ast.ClassDef)):
                     name = node.arg if isinstance(node, ast.arg) else node.name
                     self.assertTrue(name in DUNDERS or not hasattr(builtins, name), name)
+
+    def test_each_name_once(self):
+        for text, tree in SOURCES:
+            names = top_names(tree)
+            self.assertEqual(sorted(names), sorted(set(names)))
+            for name in local_names(tree):
+                self.assertNotIn(name, taken_names(tree))
+
+    def test_lists_and_dicts_of_a_file(self):
+        # Tuples alone stand at a file's top, so that nothing there can be changed.
+        for text, tree in SOURCES:
+            for top in tree.body:
+                if isinstance(top, ast.Assign):
+                    for node in ast.walk(top.value):
+                        self.assertNotIsInstance(node, (ast.List, ast.Dict, ast.Call, ast.ListComp))
+
+    def test_no_two_files_draw_from_one_another(self):
+        drawn = {}
+        for path, (text, tree) in zip(sorted(PACKAGE.glob("*.py")), SOURCES):
+            drawn["smokestairs." + path.stem] = {node.module for node in imports_of(tree)}
+        while drawn:
+            ready = [name for name, others in drawn.items() if not others & set(drawn)]
+            self.assertNotEqual(ready, [], drawn)
+            for name in ready:
+                del drawn[name]
+
+    def test_imports_come_from_the_file_that_defines_the_name(self):
+        trees = {path.stem: tree for path, (text, tree) in zip(sorted(PACKAGE.glob("*.py")), SOURCES)}
+        for text, tree in SOURCES:
+            for node in imports_of(tree):
+                source = trees[node.module.split(".")[1]]
+                for alias in node.names:
+                    self.assertIsNone(alias.asname)
+                    self.assertIn(alias.name, top_names(source))
+                    self.assertNotIn(alias.name, [name.name for line in imports_of(source) for name in line.names])
+
+    def test_methods(self):
+        own = {name for text, tree in SOURCES for name in own_methods(tree)}
+        called = set()
+        other = set()
+        for text, tree in SOURCES:
+            methods = [node.func for node in ast.walk(tree)
+                       if isinstance(node, ast.Call) and isinstance(node.func, ast.Attribute)]
+            called.update(node.attr for node in methods)
+            other.update(node.attr for node in ast.walk(tree)
+                         if isinstance(node, ast.Attribute) and node not in methods)
+        self.assertEqual(called - own - METHODS, set())
+        # No name is a method in one class and a value in another.
+        self.assertEqual(other & (own | METHODS), set())
+
+    def test_is_and_texts(self):
+        for text, tree in SOURCES:
+            for node in ast.walk(tree):
+                if isinstance(node, ast.Compare) and isinstance(node.ops[0], (ast.Is, ast.IsNot)):
+                    self.assertIsInstance(node.comparators[0], ast.Constant)
+                    self.assertIn(node.comparators[0].value, (None, True, False))
+                if isinstance(node, ast.Constant) and isinstance(node.value, str):
+                    self.assertNotIn("%", node.value)
+
+    def test_keywords_and_errors(self):
+        for text, tree in SOURCES:
+            for node in ast.walk(tree):
+                if isinstance(node, ast.Call):
+                    for keyword in node.keywords:
+                        self.assertIn(keyword.arg, KEYWORDS.get(called_name(node), ()))
+                if isinstance(node, ast.ExceptHandler):
+                    self.assertIsInstance(node.type, ast.Name)
+                    self.assertIn(node.type.id, taken_names(tree))
+
+    def test_walked_at_once(self):
+        for text, tree in SOURCES:
+            walked = []
+            for node in ast.walk(tree):
+                if isinstance(node, (ast.For, ast.comprehension)):
+                    walked.append(node.iter)
+                if called_name(node) in WALKERS:
+                    walked.extend(node.args)
+            for node in ast.walk(tree):
+                if called_name(node) in WALKED:
+                    self.assertIn(node, walked, ast.dump(node))
+
+    def test_no_set_is_kept(self):
+        for text, tree in SOURCES:
+            for node in ast.walk(tree):
+                self.assertNotIsInstance(node, ast.Set)
+                self.assertNotIn(called_name(node), ("set", "frozenset"))
 
 
 if __name__ == "__main__":
